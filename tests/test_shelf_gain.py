@@ -2,14 +2,9 @@ import unittest
 from itertools import product
 from random import Random
 
-from tests.helper import many_worths, searched_best, searched_pays
+from tests.helper import many_worths, searched_best, searched_pays, told_by
 from truthtoll.errors import BadWorths
 from truthtoll.shelf import shelf_best, shelf_gain, shelf_pays
-
-
-def told_by(worths, person, row):
-    """The worths, with another row of this person's; all others tell the same."""
-    return worths[:person] + [row] + worths[person + 1:]
 
 
 class Gains(unittest.TestCase):

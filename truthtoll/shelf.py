@@ -1,10 +1,10 @@
 """The shelf: unlike goods, of which each person gets one or none."""
 
+from truthtoll.common import MOST_TOLD, within_bounds, without
 from truthtoll.errors import BadWorths
 
 MOST_PEOPLE = 4
 MOST_GOODS = 4
-MOST_WORTH = 1000
 
 
 def shelf_best(worths):
@@ -36,8 +36,8 @@ def check_row(row, goods):
     if len(row) != goods:
         raise BadWorths("each person tells a worth for each good")
     for worth in row:
-        if not 0 <= worth <= MOST_WORTH:
-            raise BadWorths(f"a worth is a number from 0 to {MOST_WORTH}")
+        if not within_bounds(worth):
+            raise BadWorths(f"a worth is a number from 0 to {MOST_TOLD}")
 
 
 # The goods are counted apart from the worths, since the others of a lone person are nobody.
@@ -85,7 +85,3 @@ def loss_of_others(worths, dealing, person):
     others = without(worths, person)
     greatest = first_best(others, len(worths[person]))[0]
     return greatest - dealing_worth(others, without(dealing, person))
-
-
-def without(rows, place):
-    return rows[:place] + rows[place + 1:]
